@@ -1,0 +1,1 @@
+"""Everyload: message handlers, and what they do for every load."""
