@@ -1,5 +1,6 @@
 """Tables of steps: for each state a row with a step (state that follows, pairs that are sent) for each kind."""
 
+from everyload.closures import all_behind
 from everyload.figures import read_figures
 from everyload.limits import MOST_KINDS, MOST_STATES
 from everyload.names import is_place, wrong_name_at
@@ -39,17 +40,8 @@ def plain_row(row):
 
 def reachable_states(rows):
     """The states to which steps lead from state 0, ascending."""
-    found = [0]
-    known = {0: True}
-    at = 0
-    while at < len(found):
-        state = found[at]
-        for follows, _ in rows[state]:
-            if follows not in known:
-                known[follows] = True
-                found.append(follows)
-        at += 1
-    return tuple([state for state in range(len(rows)) if state in known])
+    found = all_behind(0, lambda state: [follows for follows, _ in rows[state]])
+    return tuple(sorted([int(state) for state in found]))
 
 
 def names_sent(rows, states):

@@ -138,6 +138,7 @@ class Reader:
         places = given.posonlyargs + given.args + given.kwonlyargs + [given.vararg, given.kwarg]
         bound = {place.arg for place in places if place is not None}
         inside = list(ast.walk(node))
+        bound |= {place.arg for part in inside if isinstance(part, ast.Lambda) for place in part.args.args}
         bound |= {part.id for part in inside if isinstance(part, ast.Name) and isinstance(part.ctx, ast.Store)}
         shared = {name for top in self.tree.body if isinstance(top, (ast.ImportFrom, ast.ClassDef))
                   for name in ([alias.name for alias in top.names] if isinstance(top, ast.ImportFrom) else [top.name])}
@@ -172,7 +173,9 @@ class Reader:
             if isinstance(value, ast.Starred) and not isinstance(value.value, (ast.Name, ast.Attribute)):
                 self.say("L7", node.lineno, "a star before more than a name")
         name = node.func.id if isinstance(node.func, ast.Name) else None
-        if name in ("sorted", "min", "max") and not all(self.is_plain(value) for value in node.args):
+        # Of two arguments of `min` and `max`, one is enough.
+        enough = any if name in ("min", "max") and len(node.args) > 1 else all
+        if name in ("sorted", "min", "max") and not enough(self.is_plain(value) for value in node.args):
             self.say("L5", node.lineno, f"{name} of what is not plainly numbers or strings")
         if name == "set":
             above = self.parents[node]
@@ -256,7 +259,7 @@ class Reader:
 
 def own_names():
     """What each module binds, and the methods and attributes of all classes."""
-    own = {"methods": {}, "attributes": set()}
+    own = {"methods": {}, "attributes": set(), "properties": set(), "plain": set()}
     for path in files():
         with open(path, encoding="utf-8") as file:
             tree = ast.parse(file.read())
@@ -267,7 +270,11 @@ def own_names():
             if isinstance(node, ast.Assign):
                 tops |= {target.id for target in node.targets}
             if isinstance(node, ast.ClassDef):
-                own["methods"][node.name] = {part.name for part in node.body if isinstance(part, ast.FunctionDef)}
+                methods = [part for part in node.body if isinstance(part, ast.FunctionDef)]
+                own["methods"][node.name] = {part.name for part in methods}
+                for part in methods:
+                    words = [word.id for word in part.decorator_list]
+                    own["properties" if words == ["property"] else "plain"].add(part.name)
         own["everyload." + os.path.basename(path)[:-3]] = tops
         for node in ast.walk(tree):
             if isinstance(node, ast.Attribute) and isinstance(node.ctx, ast.Store):
@@ -299,6 +306,8 @@ def circles():
 def findings():
     own = own_names()
     found = [f"L16 {name} imports itself" for name in circles()]
+    for name in sorted(own["properties"] & (own["plain"] | own["attributes"])):
+        found.append(f"L5 {name} is a property, and a method or an attribute that is assigned")
     for path in files():
         if not re.fullmatch(r"[a-z_]+\.py", os.path.basename(path)):
             found.append(f"L1 {path}")
