@@ -1,17 +1,16 @@
 """The first loads for which handlers, or webs, do not send the same."""
 
-from everyload.errors import NotAHandler, NotAWeb, NotComparable
+from everyload.errors import NotComparable
 from everyload.folding import as_one
-from everyload.handlers import Handler
+from everyload.handlers import check_handler
 from everyload.ways import check_entries, load_of, with_one
-from everyload.webs import Web
+from everyload.webs import check_web
 
 
 def parting(one, other):
     """The first load, in the order of the kinds of the first, for which two handlers do not send the same; or None."""
-    for handler in (one, other):
-        if not isinstance(handler, Handler):
-            raise NotAHandler(handler)
+    check_handler(one)
+    check_handler(other)
     if sorted([str(kind) for kind in one.kinds]) != sorted([str(kind) for kind in other.kinds]):
         raise NotComparable()
     places = [other.kinds.index(kind) for kind in one.kinds]
@@ -26,16 +25,20 @@ def alike(one, other):
 
 def web_parting(web, other, entries):
     """The first load of the entries for which the webs do not send the same out, None if there is none."""
-    for value in (web, other):
-        if not isinstance(value, Web):
-            raise NotAWeb(value)
-    check_entries(entries, [kind for kind in web.kinds if kind in other.kinds])
+    check_both(web, other, entries)
     return parting(as_one(web, entries), as_one(other, entries))
 
 
 def webs_alike(web, other, entries):
     """Whether two webs send the same out for every load of the entries."""
     return web_parting(web, other, entries) is None
+
+
+def check_both(web, other, entries):
+    """Raise the error that is due for what is no web, twice, or no entries of both."""
+    check_web(web)
+    check_web(other)
+    check_entries(entries, [kind for kind in web.kinds if kind in other.kinds])
 
 
 def parting_counts(rows, others):

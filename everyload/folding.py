@@ -1,12 +1,12 @@
 """One handler for a web, for some handlers of a web, and for a handler with more states than it needs."""
 
-from everyload.errors import InvalidIndexes, InvalidRest, NotAHandler, NotAWeb, TooManyStates
-from everyload.handlers import Handler
+from everyload.errors import InvalidIndexes, InvalidRest, TooManyStates
+from everyload.handlers import Handler, check_handler
 from everyload.limits import MOST_STATES
 from everyload.loads import Load
 from everyload.names import is_place
 from everyload.ways import check_entries, first_loads, load_of
-from everyload.webs import Web
+from everyload.webs import Web, check_web
 
 
 class Singles:
@@ -14,6 +14,7 @@ class Singles:
 
     def __init__(self, web, entries):
         self._web = web
+        self._entries = entries
         self._loads = [Load((entry, 1)) for entry in entries]
         self._outcomes = {}
 
@@ -32,6 +33,15 @@ class Singles:
         if found is None:
             raise TooManyStates(MOST_STATES)
         return found
+
+    def handler(self):
+        """The handler that takes the entries and sends what goes out; its states are the rests that are come to."""
+        numbers = {rest: number for number, rest in enumerate(self.rests())}
+        rows = []
+        for rest in numbers:
+            outcomes = [self.outcome(rest, at) for at in range(len(self._loads))]
+            rows.append(tuple([(numbers[outcome.rest], outcome.outs.pairs) for outcome in outcomes]))
+        return Handler(self._entries, tuple(rows))
 
 
 def come_to(web, entries):
@@ -56,19 +66,12 @@ def as_one(web, entries):
     """The handler that takes the entries and sends what goes out of the web; its states are the rests come to."""
     check_web(web)
     check_entries(entries, web.kinds)
-    singles = Singles(web, entries)
-    numbers = {rest: number for number, rest in enumerate(singles.rests())}
-    rows = []
-    for rest in numbers:
-        outcomes = [singles.outcome(rest, at) for at in range(len(entries))]
-        rows.append(tuple([(numbers[outcome.rest], outcome.outs.pairs) for outcome in outcomes]))
-    return Handler(entries, tuple(rows))
+    return Singles(web, entries).handler()
 
 
 def least(handler):
     """The handler with the fewest states that is alike, its states in the order of their first loads."""
-    if not isinstance(handler, Handler):
-        raise NotAHandler(handler)
+    check_handler(handler)
     rows = handler.rows
     classes = classes_of(rows, handler.reachable)
     samples = {number: state for state, number in classes.items()}
@@ -95,11 +98,6 @@ def folded(web, places):
         elif place not in places:
             handlers.append(handler)
     return Web(*handlers)
-
-
-def check_web(web):
-    if not isinstance(web, Web):
-        raise NotAWeb(web)
 
 
 def check_places(places, many):

@@ -1,7 +1,7 @@
 """Handlers: what takes messages, has a state and sends messages."""
 
 from everyload.errors import Heeds, InvalidNumber, InvalidPairs, InvalidRows, InvalidText
-from everyload.errors import NotALoad, UnknownKind
+from everyload.errors import NotAHandler, NotALoad, UnknownKind
 from everyload.limits import MOST_KINDS, MOST_STATES
 from everyload.loads import Load
 from everyload.names import check_kinds, is_name, is_place, plain_name
@@ -19,6 +19,7 @@ class Handler:
         self._kinds = tuple([plain_name(kind) for kind in kinds])
         self._rows = plain_rows(rows)
         self._reachable = reachable_states(self._rows)
+        self._reached = {state: True for state in self._reachable}
         self._sent = names_sent(self._rows, self._reachable)
         heeding = first_heeding(self._rows, len(kinds), self._reachable)
         if heeding is not None:
@@ -62,7 +63,7 @@ class Handler:
     def after(self, load, *, state=0):
         """The pair of the state behind the messages of the load and the Load that is sent meanwhile."""
         check_load(load, self._kinds)
-        if not is_place(state, len(self._rows)) or state not in self._reachable:
+        if not self.reaches(state):
             raise InvalidNumber(state)
         behind = int(state)
         counts = {}
@@ -74,6 +75,10 @@ class Handler:
                 for name, each in self._rows[at][place][1]:
                     counts[name] = counts.get(name, 0) + each * times
         return (behind, Load.of(by_name(counts)))
+
+    def reaches(self, value):
+        """Whether this is the number of a reachable state."""
+        return is_place(value, len(self._rows)) and value in self._reached
 
     def renamed(self, pairs):
         """The handler in which the names of the pairs (old name, new name) are exchanged."""
@@ -96,6 +101,11 @@ class Handler:
 
     def __repr__(self):
         return f"Handler({len(self._kinds)} kinds, {len(self._rows)} states)"
+
+
+def check_handler(handler):
+    if not isinstance(handler, Handler):
+        raise NotAHandler(handler)
 
 
 def check_rows(rows, kinds):

@@ -42,6 +42,16 @@ def wrong_name_at(names):
     return None
 
 
+def wrong_choice_at(names, own):
+    """The index of the first one that is none of one's own names or stands ahead already, None if there is none."""
+    ahead = {}
+    for at, name in enumerate(names):
+        if not isinstance(name, str) or name not in own or name in ahead:
+            return at
+        ahead[name] = True
+    return None
+
+
 def check_kinds(kinds, most):
     """Raise InvalidKinds if this is no tuple of different names, as many as `most` (None: any number)."""
     if not isinstance(kinds, tuple) or len(kinds) == 0:

@@ -34,6 +34,8 @@ class Plan:
         self.groups = groups_of([all_behind(at, lambda kind: sent[kind]) for at in range(len(kinds))])
         # The Leaps of each group, made as soon as some run is long enough to need them.
         self.leaps = [None for _ in self.groups]
+        # Its Effects (see everyload.effects), made when they are first asked for.
+        self.effects = None
 
     def comes_to_an_end(self):
         """Whether running each load from each rest does.

@@ -2,6 +2,7 @@
 
 from everyload.errors import InvalidEntries
 from everyload.loads import Load
+from everyload.names import wrong_choice_at
 from everyload.pairs import by_name
 
 
@@ -43,8 +44,6 @@ def check_entries(entries, kinds):
     """Raise InvalidEntries if this is no tuple of one or more of the kinds, different ones."""
     if not isinstance(entries, tuple) or len(entries) == 0:
         raise InvalidEntries(None)
-    ahead = {}
-    for at, entry in enumerate(entries):
-        if not isinstance(entry, str) or entry not in kinds or entry in ahead:
-            raise InvalidEntries(at)
-        ahead[entry] = True
+    wrong = wrong_choice_at(entries, kinds)
+    if wrong is not None:
+        raise InvalidEntries(wrong)

@@ -6,7 +6,7 @@ from everyload.figures import figures_of
 from everyload.handlers import Handler, check_load
 from everyload.limits import MOST_HANDLERS, MOST_KINDS
 from everyload.loads import Load
-from everyload.names import is_place, wrong_name_at
+from everyload.names import wrong_name_at
 from everyload.pairs import by_name
 from everyload.plans import Plan
 from everyload.running import run_out
@@ -26,8 +26,8 @@ class Web:
         self._kinds = tuple(kinds)
         self._outs = tuple(sorted([str(name) for name in sent if name not in kinds]))
         self._start = tuple([0 for _ in handlers])
-        self._plan = Plan(handlers)
-        if not self._plan.comes_to_an_end():
+        self.plan = Plan(handlers)
+        if not self.plan.comes_to_an_end():
             raise Endless()
 
     @staticmethod
@@ -60,7 +60,7 @@ class Web:
         check_load(load, self._kinds)
         states = self.states_of(rest)
         counts = dict(load.pairs)
-        ends, taken = run_out(self._plan, states, [counts.get(kind, 0) for kind in self._kinds])
+        ends, taken = run_out(self.plan, states, [counts.get(kind, 0) for kind in self._kinds])
         delivered = {kind: count for kind, count in zip(self._kinds, taken) if count > 0}
         outs = self.sent_out(states, delivered)
         return Outcome(tuple(ends), Load.of(by_name(outs)), Load.of(by_name(delivered)))
@@ -93,7 +93,7 @@ class Web:
         """The place of the handler that takes the kind."""
         if not isinstance(kind, str) or kind not in self._kinds:
             raise UnknownKind(kind)
-        return self._plan.homes[self._kinds.index(kind)]
+        return self.plan.homes[self._kinds.index(kind)]
 
     def states_of(self, rest):
         """The states of a rest, the start for None; InvalidRest for anything else."""
@@ -106,7 +106,7 @@ class Web:
     def is_rest(self, value):
         if not isinstance(value, tuple) or len(value) != len(self._handlers):
             return False
-        return all([is_reachable(state, handler) for state, handler in zip(value, self._handlers)])
+        return all([handler.reaches(state) for state, handler in zip(value, self._handlers)])
 
     def sent_out(self, states, delivered):
         """A dict of what leaves when so many messages of the kinds are taken from these states on."""
@@ -158,6 +158,11 @@ class Outcome:
         return f"Outcome({figures_of(self._delivered.size)} delivered)"
 
 
+def check_web(web):
+    if not isinstance(web, Web):
+        raise NotAWeb(web)
+
+
 def check_handlers(handlers):
     """Raise InvalidHandlers if these are too few or too many, or no handlers with kinds of their own."""
     if not 1 <= len(handlers) <= MOST_HANDLERS:
@@ -177,10 +182,6 @@ def read_tables(text):
         return None
     kinds = [kind for names, _ in tables for kind in names]
     return tables if wrong_name_at(kinds) is None else None
-
-
-def is_reachable(value, handler):
-    return is_place(value, len(handler)) and value in handler.reachable
 
 
 def chosen(value, kinds):

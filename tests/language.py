@@ -21,7 +21,7 @@ discard""".split())
 TAKEN = (set(dir(str)) | set(dir(int)) | set(dir(list)) | set(dir(dict)) | set(dir(set)) | set(dir(bytes)))
 SPECIAL = set("""__init__ __eq__ __repr__ __str__ __len__ __enter__ __exit__ __call__ __iter__ __lt__ __le__ __gt__
 __ge__ __ne__ __add__ __sub__ __mul__ __and__ __or__ __rmul__ __contains__ __getitem__""".split())
-NEVER = {"register", "mro", "elements", "open", "input", "law", "version_info", "with_traceback", "add_note", "type"}
+NEVER = {"register", "mro", "elements", "open", "input", "law", "version_info", "with_traceback", "add_note"}
 WORDS = ("typing enum Enum IntEnum StrEnum Flag IntFlag Generic Protocol ABC ABCMeta namedtuple NamedTuple "
          "TypedDict TYPE_CHECKING abstractmethod type").split()
 LIBRARY = {"heapq": {"heappush", "heappop", "heapify"}, "math": {"gcd", "lcm", "isqrt"},
@@ -87,7 +87,7 @@ class Reader:
                     self.say("L27", token.start[0], "an escape or a %")
                 if any(re.search(r"\b" + word + r"\b", token.string) for word in WORDS):
                     self.say("L17", token.start[0], "a word in a string")
-            if token.type == tokenize.NAME:
+            if token.type == tokenize.NAME and token.string != "type":
                 self.name(token.string, token.start[0])
 
     def name(self, name, line):
@@ -127,7 +127,8 @@ class Reader:
         for kind, look in ((ast.FunctionDef, self.function), (ast.ClassDef, self.shape), (ast.Call, self.call),
                            (ast.Constant, self.constant), (ast.BinOp, self.sign), (ast.AugAssign, self.grown),
                            (ast.Compare, self.compared), (ast.JoinedStr, self.filled), (ast.Attribute, self.off),
-                           (ast.For, self.loop), (ast.ExceptHandler, self.handler), (ast.Raise, self.raised)):
+                           (ast.For, self.loop), (ast.ExceptHandler, self.handler), (ast.Raise, self.raised),
+                           (ast.Name, self.kind_of), (ast.Try, self.end), (ast.With, self.block)):
             if isinstance(node, kind):
                 look(node)
 
@@ -151,7 +152,7 @@ class Reader:
         known = bound | shared | self.own_tops() | {part.name for part in inside if isinstance(part, ast.FunctionDef)}
         for part in inside:
             if isinstance(part, ast.Name) and isinstance(part.ctx, ast.Load):
-                if part.id not in known and part.id not in BUILTINS:
+                if part.id not in known and part.id not in BUILTINS and part.id != "type":
                     self.say("L8", part.lineno, f"{part.id} is not allowed")
                 if part.id == "_":
                     self.say("L12", part.lineno, "_ is read")
@@ -161,6 +162,8 @@ class Reader:
 
     def shape(self, node):
         for part in node.body:
+            if isinstance(part, ast.FunctionDef) and part.name == "__exit__" and not self.are_simple(part.body):
+                self.say("L6", part.lineno, "more than assignments in an __exit__")
             if isinstance(part, ast.FunctionDef) and part.name in TAKEN - SPECIAL:
                 self.say("L26", part.lineno, f"{part.name} is a method of a builtin value")
             if isinstance(part, ast.FunctionDef) and part.name.startswith("__") and part.name not in SPECIAL:
@@ -248,6 +251,43 @@ class Reader:
                 if getattr(part.value, "id", "") in over:
                     self.say("L23", part.lineno, "a loop changes what it goes over")
 
+    def kind_of(self, node):
+        """`type` stands in a comparison of a call with the name of a class, and nowhere else."""
+        if node.id == "type":
+            call = self.parents[node]
+            above = self.parents[call]
+            beside = above.comparators[0] if isinstance(above, ast.Compare) and above.left is call else None
+            if not (isinstance(call, ast.Call) and call.func is node and isinstance(beside, ast.Name)):
+                self.say("L8", node.lineno, "type")
+
+    def is_simple(self, node):
+        if isinstance(node, ast.Attribute):
+            return self.is_simple(node.value)
+        return isinstance(node, (ast.Name, ast.Constant))
+
+    def are_simple(self, rows):
+        """Whether these are nothing but assignments of names and attributes to such."""
+        for row in rows:
+            if not isinstance(row, ast.Assign) or not all(self.is_simple(node) for node in (*row.targets, row.value)):
+                return False
+        return True
+
+    def end(self, node):
+        if not self.are_simple(node.finalbody):
+            self.say("L6", node.finalbody[0].lineno, "more than assignments in a finally")
+        inside = {part for row in node.body for part in ast.walk(row)}
+        if any(isinstance(part, (ast.Yield, ast.YieldFrom)) for part in inside):
+            self.say("L23", node.lineno, "a yield under a try")
+        own = {name for handler in node.handlers for part in ast.walk(handler.type) if isinstance(part, ast.Name)
+               for name in [part.id]}
+        if own & set(dir(builtins)) - {"KeyError", "ZeroDivisionError"}:
+            self.say("L19", node.lineno, f"{own} are caught")
+
+    def block(self, node):
+        for item in node.items:
+            if not isinstance(item.context_expr, (ast.Call, ast.Name, ast.Attribute)):
+                self.say("L6", node.lineno, "a with over something else")
+
     def handler(self, node):
         if node.type is None:
             self.say("L19", node.lineno, "a bare except")
@@ -308,6 +348,8 @@ def findings():
     found = [f"L16 {name} imports itself" for name in circles()]
     for name in sorted(own["properties"] & (own["plain"] | own["attributes"])):
         found.append(f"L5 {name} is a property, and a method or an attribute that is assigned")
+    for name in sorted(own["plain"] & own["attributes"]):
+        found.append(f"L18 {name} is a method and an attribute")
     for path in files():
         if not re.fullmatch(r"[a-z_]+\.py", os.path.basename(path)):
             found.append(f"L1 {path}")
