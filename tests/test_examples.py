@@ -40,7 +40,7 @@ class Examples(Case):
             self.same(caught.exception.__dict__, eval("dict(" + attributes))
 
     def test_there_are_some(self):
-        self.assertEqual(len(blocks()), 14)
+        self.assertEqual(len(blocks()), 17)
 
     def test_all_of_them(self):
         for *lines, told in blocks():
